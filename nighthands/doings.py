@@ -26,6 +26,13 @@ def lateness(doing):
     return (doing.time, doing.hand)
 
 
+# What a doing bears, and itself: its hand surely knows that, and a signature stands for it.
+def with_itself(doing):
+    knowledge = list(doing.bears)
+    knowledge[doing.hand] = doing.number + 1
+    return knowledge
+
+
 # Only a later back takes a doing back. From the last one down, a back's own fate is settled before it is asked.
 def taken_back(own, many):
     taken = [False] * many

@@ -1,6 +1,6 @@
 """The hands with their doings and copies, and the line between them."""
 
-from nighthands.doings import Doing
+from nighthands.doings import SIGN, Doing, with_itself
 
 
 # A waiting doing is (hand, number); a message is (the hand to which it goes, hand, number).
@@ -35,13 +35,44 @@ def do(line, hand, kind, told):
     return number
 
 
+def is_within(part, knowledge):
+    return all([few <= many for few, many in zip(part, knowledge)])
+
+
+def knows(line, hand, name):
+    return name[1] < line.known[hand][name[0]]
+
+
+def known_doing(line, hand, name):
+    if not knows(line, hand, name):
+        return None
+    return line.doings[name[0]][name[1]]
+
+
+def known_signs(line, hand):
+    signs = []
+    for maker, many in enumerate(line.known[hand]):
+        signs.extend([doing for doing in line.doings[maker][:many] if doing.kind == SIGN])
+    return signs
+
+
 def surely_known(line, hand, knowledge):
     many = knowledge[hand]
     if many == 0:
         return [0] * line.hands
-    sure = list(line.doings[hand][many - 1].bears)
-    sure[hand] = many
-    return sure
+    return with_itself(line.doings[hand][many - 1])
+
+
+# The copy's own hand is left out: it may have heard more since its last doing.
+def all_surely_know(line, hand):
+    knowledge = line.known[hand]
+    sure = [surely_known(line, other, knowledge) for other in range(line.hands) if other != hand]
+    return [min([row[maker] for row in sure + [knowledge]]) for maker in range(line.hands)]
+
+
+# A copy only comes to know more, so the last of a hand's doings bears all that those before it bear.
+def is_closed(line, knowledge):
+    return all([is_within(surely_known(line, hand, knowledge), knowledge) for hand in range(line.hands)])
 
 
 def lacks(line, hand, other):
@@ -58,7 +89,7 @@ def is_ready(line, hand, name):
     doing = line.doings[name[0]][name[1]]
     if doing.number != known[doing.hand]:
         return False
-    return all([borne <= many for borne, many in zip(doing.bears, known)])
+    return is_within(doing.bears, known)
 
 
 def first_ready(line, hand):
@@ -81,7 +112,7 @@ def take_ready(line, hand):
 
 
 def bring(line, hand, name):
-    if name[1] < line.known[hand][name[0]] or name in line.waiting[hand]:
+    if knows(line, hand, name) or name in line.waiting[hand]:
         return 0
     line.waiting[hand].append(name)
     return take_ready(line, hand)

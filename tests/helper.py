@@ -55,6 +55,54 @@ def double(i):
     return (11, i)
 
 
+def view(c):
+    return (12, c)
+
+
+def known(c):
+    return (13, c)
+
+
+def stable(c):
+    return (14, c)
+
+
+def signs(c):
+    return (15, c)
+
+
+def signed(c, m, k):
+    return (16, c, m, k)
+
+
+def at(c, *knowledge):
+    return (17, c, knowledge)
+
+
+def mark(c, m, k):
+    return (18, c, m, k)
+
+
+def overlaps(c):
+    return (19, c)
+
+
+def doing(c, m, k):
+    return (20, c, m, k)
+
+
+def differ(c, g):
+    return (21, c, g)
+
+
+def bag():
+    return (22,)
+
+
+def counts():
+    return (23,)
+
+
 def flat(calls):
     """One list of whole numbers; a tuple within a call is a row, handed in with its size ahead."""
     numbers = []
@@ -99,6 +147,18 @@ def tell(calls, c, g):
     return calls + [send(c, g)] + [deliver(0)] * many
 
 
+def marks(given):
+    """The marks of an answer that is a view."""
+    if given[0] != 0 or len(given) != 2 + 5 * given[1]:
+        raise AssertionError(f"not a view: {given}")
+    return [tuple(given[place:place + 5]) for place in range(2, len(given), 5)]
+
+
+def shown(calls, asking):
+    """The marks of the view that the last call asks for."""
+    return marks(last(calls + [asking]))
+
+
 def run(calls):
     """The line as it is behind the calls."""
     line = Line()
@@ -113,3 +173,12 @@ def state(line):
     known = [list(knowledge) for knowledge in line.known]
     waiting = [list(names) for names in line.waiting]
     return (line.hands, line.length, doings, known, waiting, list(line.bag))
+
+
+def refused(case, before, wrong, number):
+    """Each of the wrong calls behind those before answers the number alone and leaves all as it was."""
+    plain = state(run(before))
+    for call in wrong:
+        with case.subTest(call=call):
+            case.assertEqual(ask(before + [call])[-1], [number])
+            case.assertEqual(state(run(before + [call])), plain)

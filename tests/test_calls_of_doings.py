@@ -2,16 +2,8 @@
 
 import unittest
 
-from helper import FAR, ask, back, drop, hands, hello, label, last, lose, move, put, run, send, sign, state, tell
-
-
-def refused(case, before, wrong, number):
-    """Each of the wrong calls behind those before answers the number alone and leaves all as it was."""
-    plain = state(run(before))
-    for call in wrong:
-        with case.subTest(call=call):
-            case.assertEqual(ask(before + [call])[-1], [number])
-            case.assertEqual(state(run(before + [call])), plain)
+from helper import (FAR, ask, back, drop, hands, hello, label, last, lose, move, put, refused, run, send, sign, state,
+                    tell)
 
 
 class Hands(unittest.TestCase):

@@ -5,19 +5,30 @@ import io
 import sys
 import unittest
 
-from helper import FAR, ask, back, deliver, double, drop, flat, hands, hello, label, lose, move, put, send, sign
+from helper import (FAR, ask, at, back, bag, counts, deliver, differ, doing, double, drop, flat, hands, hello, known,
+                    label, lose, mark, move, overlaps, put, run, send, sign, signed, signs, stable, state, view)
+from nighthands.calls import answer
 from nighthands.copies import answers
 
 LONG = [
     hands(3, 50), put(0, 0, 10, 1), put(1, 5, 20, 2), send(0, 1), deliver(0), move(1, 0, 0, 3, 9), label(1, 0, 0, 4),
-    send(1, 2), double(0), deliver(3), deliver(0), deliver(0), lose(0), sign(2), back(1, 1), drop(0, 0, 0), hello(1),
+    send(1, 2), double(0), deliver(3), deliver(0), deliver(0), lose(0), sign(2), back(1, 1), put(0, 2, 4, 1),
+    drop(1, 1, 0), hello(1),
 ]
 
-# Calls 12 to 23 with numbers in their ranges, for a line of two hands.
+# Calls 12 to 23. None of these is refused behind LONG ..
 ASKING = [
-    (12, 0), (13, 0), (14, 1), (15, 0), (16, 0, 0, 0), (17, 0, (0, 0)), (18, 0, 0, 0), (19, 0), (20, 0, 0, 0),
-    (21, 0, 1), (22,), (23,),
+    view(0), known(0), stable(1), signs(2), signed(2, 2, 0), at(1, 1, 1, 0), mark(0, 0, 0), overlaps(0), doing(0, 0, 0),
+    differ(0, 1), bag(), counts(),
 ]
+
+# .. and each of these is.
+REFUSED = [
+    view(3), known(-1), stable(3), signs(FAR), signed(0, 0, 0), signed(0, 0, 121), at(0, 0), at(0, 0, 120, 0),
+    at(2, 0, 2, 0), mark(0, 0, 2), mark(3, 0, 0), overlaps(-FAR), doing(2, 1, 9), doing(0, 3, 0), differ(0, 3),
+]
+
+ALL = LONG + ASKING + REFUSED + [hands(2, 9)] + LONG + ASKING
 
 
 class Sealed(list):
@@ -41,7 +52,7 @@ class FormOfAnswers(unittest.TestCase):
         self.assertEqual(answers([0, 1, 1, 5, 0, 0]), [1, 0, 1, -4])
 
     def test_answers_are_a_list_of_ints(self):
-        given = answers(flat(LONG))
+        given = answers(flat(LONG + ASKING + REFUSED))
         self.assertIs(type(given), list)
         self.assertEqual({type(number) for number in given}, {int})
 
@@ -51,73 +62,100 @@ class FormOfAnswers(unittest.TestCase):
     def test_three_hundred_calls(self):
         self.assertEqual(ask([hands(1, 1)] + [lose(0)] * 299), [[0]] + [[-1]] * 299)
 
+    def test_long_answers(self):
+        many = [hands(1, 9)] + [put(0, 0, 9, 1)] * 120
+        found = ask(many + [overlaps(0)] * 100 + [view(0)] * 79)[121:]
+        self.assertEqual({len(one) for one in found[:100]}, {2 + 4 * 7140})
+        self.assertEqual({len(one) for one in found[100:]}, {2 + 5 * 120})
+
 
 class CallsThatOnlyAsk(unittest.TestCase):
-    def test_they_are_read_to_their_end(self):
-        plain = ask([hands(2, 9), hello(0), hello(0)])
+    def test_they_change_nothing(self):
+        plain = state(run(LONG))
         for call in ASKING:
             with self.subTest(call=call):
-                found = ask([hands(2, 9), hello(0), call, hello(0)])
-                self.assertEqual(len(found), 4)
-                self.assertEqual(found[:2] + found[3:], plain)
+                found = ask(LONG + [call, call])
+                self.assertEqual(found[-2][0], 0)
+                self.assertEqual(found[-2], found[-1])
+                self.assertEqual(state(run(LONG + [call])), plain)
+
+    def test_refused_ones_change_nothing(self):
+        plain = state(run(LONG))
+        for call in REFUSED:
+            with self.subTest(call=call):
+                self.assertIn(ask(LONG + [call])[-1], ([-1], [-4], [-7]))
+                self.assertEqual(state(run(LONG + [call])), plain)
+
+    def test_the_calls_behind_them_answer_as_if_they_had_not_been_there(self):
+        for asking in (ASKING, REFUSED):
+            mixed = []
+            for call in LONG:
+                mixed += [call] + asking
+            self.assertLessEqual(len(mixed), 300)
+            found = ask(mixed)
+            self.assertEqual(found[::1 + len(asking)], ask(LONG))
+            self.assertEqual(found[-len(asking):], ask(LONG + asking)[len(LONG):])
+
+    def test_what_they_answer_is_not_what_the_line_holds(self):
+        line = run(LONG)
+        plain = state(line)
+        for call in ASKING:
+            with self.subTest(call=call):
+                given = answer(line, call[0], call[1:])
+                given.clear()
+                self.assertEqual(state(line), plain)
 
     def test_rows_of_every_size_are_read_to_their_end(self):
         for size in range(11):
             with self.subTest(size=size):
-                found = ask([hands(2, 9), (17, 0, (7,) * size), hello(1)])
+                found = ask([hands(2, 9), at(0, *[7] * size), hello(1)])
                 self.assertEqual(len(found), 3)
-                self.assertEqual(found[2], [0, 0])
+                self.assertEqual(found[1:], [[-4] if size == 2 else [-1], [0, 0]])
+
+    def test_rows_that_look_like_calls(self):
+        self.assertEqual(ask([hands(2, 9), at(0, 0, 1), at(0, 7, 0, 23), at(0, 0, 0), counts()])[1:],
+                         [[-4], [-1], [0, 0], [0, 2, 9, 0, 0]])
 
     def test_without_hands(self):
-        for call in ASKING:
+        for call in ASKING + REFUSED + [at(0), at(0, *[FAR] * 10)]:
             with self.subTest(call=call):
                 self.assertEqual(ask([call, hands(2, 9)]), [[-9], [0]])
 
-    def test_numbers_out_of_range(self):
-        wrong = [(number, c) for number in (12, 13, 14, 15, 19) for c in (-1, 2, FAR, -FAR)]
-        wrong += [(number,) + told for number in (16, 18, 20)
-                  for told in ((2, 0, 0), (-1, 0, 0), (0, 2, 0), (0, -1, 0), (0, 0, -1), (0, 0, 121))]
-        wrong += [(21, 2, 0), (21, -1, 0), (21, 0, 2), (21, 0, -1)]
-        for call in wrong:
-            with self.subTest(call=call):
-                self.assertEqual(ask([hands(2, 9), call, hello(0)])[1:], [[-1], [0, 0]])
+    def test_behind_hands_that_were_refused(self):
+        for call in ASKING:
+            self.assertEqual(ask([hands(6, 9), hands(2, 0), call]), [[-1], [-1], [-9]])
 
-    def test_a_list_that_is_not_as_told(self):
-        for row in ((), (0,), (0, 0, 0), (0,) * 10, (0, -1), (121, 0), (FAR, -FAR)):
-            with self.subTest(row=row):
-                self.assertEqual(ask([hands(2, 9), (17, 0, row), hello(0)])[1:], [[-1], [0, 0]])
-        self.assertEqual(ask([hands(2, 9), (17, 2, (0, 0)), hello(0)])[1:], [[-1], [0, 0]])
-
-    def test_numbers_in_range_are_not_refused_for_it(self):
-        for call in ASKING + [(17, 1, (120, 120)), (16, 1, 1, 120), (18, 1, 1, 120), (20, 1, 1, 120), (21, 1, 1)]:
-            with self.subTest(call=call):
-                self.assertNotIn(ask([hands(2, 9), call])[1], ([-1], [-9]))
+    def test_behind_a_second_hands_nothing_is_left(self):
+        found = ask(LONG + [hands(2, 9), view(0), known(1), stable(0), signs(0), signed(0, 1, 0), at(0, 0, 0),
+                            mark(0, 0, 0), overlaps(0), doing(0, 0, 0), differ(0, 1), bag(), counts(), view(2)])
+        self.assertEqual(found[len(LONG):], [[0], [0, 0], [0, 0, 0, 0], [0, 0, 0], [0, 0], [-4], [0, 0], [-4], [0, 0],
+                                             [-4], [0, 1, 0, 0], [0, 0], [0, 2, 9, 0, 0], [-1]])
 
 
 class WholeProgram(unittest.TestCase):
     def test_what_is_handed_in_is_the_same_afterwards(self):
-        calls = flat(LONG + ASKING)
+        calls = flat(ALL)
         before = list(calls)
         answers(calls)
         self.assertEqual(calls, before)
 
     def test_what_is_handed_in_is_not_changed_for_a_while_either(self):
-        calls = flat(LONG + ASKING)
+        calls = flat(ALL)
         self.assertEqual(answers(Sealed(calls)), answers(calls))
 
     def test_the_same_list_twice(self):
-        calls = flat(LONG)
+        calls = flat(ALL)
         self.assertEqual(answers(calls), answers(calls))
 
     def test_nothing_is_kept(self):
-        answers(flat(LONG))
+        answers(flat(ALL))
         self.assertEqual(answers([7, 0]), [1, -9])
-        first = answers(flat(LONG))
+        first = answers(flat(ALL))
         answers(flat([hands(5, 1000)] + [hello(4)] * 120))
-        self.assertEqual(answers(flat(LONG)), first)
+        self.assertEqual(answers(flat(ALL)), first)
 
     def test_what_was_given_back_is_the_caller_s_own(self):
-        calls = flat(LONG)
+        calls = flat(ALL)
         first = answers(calls)
         kept = list(first)
         first.clear()
@@ -130,20 +168,23 @@ class WholeProgram(unittest.TestCase):
         sys.stdin = None
         try:
             with contextlib.redirect_stdout(out), contextlib.redirect_stderr(err):
-                answers(flat(LONG))
+                answers(flat(ALL))
         finally:
             sys.stdin = plain
         self.assertEqual((out.getvalue(), err.getvalue()), ("", ""))
 
     def test_long_chains_are_gone_through_by_loops(self):
         chain = [hands(1, 1), put(0, 0, 1, 0)] + [back(0, k) for k in range(119)]
+        chain += [view(0), doing(0, 0, 0), mark(0, 0, 0), at(0, 119), at(0, 120), differ(0, 0), overlaps(0)]
         depth = sys.getrecursionlimit()
         sys.setrecursionlimit(100)
         try:
             found = ask(chain)
         finally:
             sys.setrecursionlimit(depth)
-        self.assertEqual(found[1:], [[0, k] for k in range(120)])
+        self.assertEqual(found[1:121], [[0, k] for k in range(120)])
+        self.assertEqual(found[121:], [[0, 0], [0, 1, 1, 0, 0, 0, 1, 0], [-4], [0, 1, 0, 0, 0, 1, 0], [0, 0],
+                                       [0, 1, 0, 0], [0, 0]])
 
 
 if __name__ == "__main__":

@@ -2,8 +2,8 @@
 
 import unittest
 
-from helper import (FAR, ask, back, deliver, double, drop, hands, hello, label, last, lose, move, put, run, send, sign,
-                    state)
+from helper import (FAR, ask, at, back, bag, counts, deliver, differ, doing, double, drop, hands, hello, known, label,
+                    last, lose, mark, move, overlaps, put, run, send, sign, signed, signs, stable, state, view)
 
 # A line on which 120 doings are done, so that -6 could be told of every call of doings. Hand 0 has a put that is
 # taken back (0), its back (1), a put that counts (2), a back of it that is taken back (3), the back of that (4), then
@@ -27,6 +27,18 @@ class NoHands(unittest.TestCase):
 
     def test_a_number_out_of_range_of_hands(self):
         self.assertEqual(ask([hands(0, 1001)]), [[-1]])
+
+    def test_of_calls_that_only_ask_too(self):
+        for call in (view(0), known(0), stable(0), signs(0), signed(0, 0, 0), at(0, 0), mark(0, 0, 0), overlaps(0),
+                     doing(0, 0, 0), differ(0, 0), bag(), counts()):
+            with self.subTest(call=call):
+                self.assertEqual(ask([call, hands(1, 1), counts()]), [[-9], [0], [0, 1, 1, 0, 0]])
+
+    def test_of_calls_that_only_ask_before_a_number_out_of_range(self):
+        for call in (view(-1), known(5), stable(FAR), signs(-FAR), signed(0, 9, 121), at(-1), at(0, *[-1] * 10),
+                     mark(0, 0, -1), overlaps(-1), doing(FAR, FAR, FAR), differ(-1, 0)):
+            with self.subTest(call=call):
+                self.assertEqual(ask([call]), [[-9]])
 
 
 class InOrder(unittest.TestCase):
@@ -67,6 +79,23 @@ class InOrder(unittest.TestCase):
     def test_a_mark_of_the_view_leaves_many_doings(self):
         for call in (move(0, 0, 2, 0, 1), label(0, 0, 2, 9), drop(0, 0, 2)):
             self.told(call, -6)
+
+
+    def test_calls_that_only_ask_need_no_room(self):
+        for call in (view(0), known(0), stable(0), signs(0), signed(0, 0, 55), at(0, 56, 0), mark(0, 0, 2), overlaps(0),
+                     doing(0, 0, 0), differ(0, 1), bag(), counts()):
+            with self.subTest(call=call):
+                self.assertEqual(ask(FULL + [call])[-1][0], 0)
+                self.assertEqual(state(run(FULL + [call])), state(run(FULL)))
+
+    def test_of_calls_that_only_ask(self):
+        for call in (view(2), known(2), stable(2), signs(2), signed(2, 0, 54), signed(0, 0, 121), at(0, 56),
+                     at(2, 0, 0), at(0, 121, 0), mark(0, 2, 0), overlaps(2), doing(0, 0, 121), differ(2, 0),
+                     differ(0, 2)):
+            self.told(call, -1)
+        for call in (signed(0, 0, 54), signed(1, 0, 55), signed(0, 0, 120), at(0, 57, 0), at(0, 0, 1), at(1, 1, 0),
+                     mark(0, 0, 0), mark(1, 0, 2), mark(0, 0, 120), doing(0, 0, 56), doing(1, 0, 0), doing(0, 0, 120)):
+            self.told(call, -4)
 
 
 class NothingChanges(unittest.TestCase):
